@@ -1,0 +1,1 @@
+"""Chairs round a table, and calls that move people back."""

@@ -1,0 +1,142 @@
+import copy
+import inspect
+import unittest
+
+from nextstands import packs, tables
+from tests.helpers import as_lists, as_tuples, mixed_calls, shape, within
+
+MOVES = ((0, 2), (0, 3), (0, 0), (0, 0), (0, 1))
+
+# For each function: its module, its name, its arguments by the names of the document.
+FUNCTIONS = (
+    (tables, "is_table", {"size": 5, "thing": (0, 3)}),
+    (tables, "is_calls", {"size": 5, "thing": [4, 4]}),
+    (tables, "mover", {"size": 5, "table": (0, 3), "chair": 1}),
+    (tables, "called", {"size": 5, "table": (0, 3), "chair": 1}),
+    (tables, "table_after", {"size": 5, "table": (0, 3), "calls": [1, 4, 3]}),
+    (tables, "tables_along", {"size": 5, "table": (0, 3), "calls": [1, 4, 3]}),
+    (tables, "idle_calls", {"size": 5, "table": (0, 3), "calls": [3, 1, 3]}),
+    (tables, "steps", {"size": 5, "table": (0, 3), "calls": [1, 4, 3]}),
+    (tables, "seats_after", {"size": 5, "table": (0, 3), "calls": [1, 4, 3]}),
+    (packs, "pack", {"size": 5, "people": 2, "chair": 0}),
+    (packs, "moves_of", {"size": 5, "people": 2, "calls": [2]}),
+    (packs, "steps_by", {"size": 5, "moves": MOVES, "table": (0, 3)}),
+    (packs, "followed", {"size": 5, "first": MOVES, "second": MOVES}),
+    (packs, "repeated", {"size": 5, "moves": MOVES, "many": 3}),
+)
+
+# The same with nothing to do, where a result is most easily the argument itself.
+IDLE = (
+    (tables, "called", {"size": 5, "table": (0, 3), "chair": 3}),
+    (tables, "table_after", {"size": 5, "table": (0, 3), "calls": []}),
+    (tables, "tables_along", {"size": 5, "table": (0, 3), "calls": []}),
+    (tables, "idle_calls", {"size": 5, "table": (0, 3), "calls": []}),
+    (tables, "steps", {"size": 5, "table": (0, 3), "calls": []}),
+    (tables, "seats_after", {"size": 5, "table": (0, 3), "calls": []}),
+    (packs, "repeated", {"size": 5, "moves": MOVES, "many": 0}),
+    (packs, "repeated", {"size": 5, "moves": MOVES, "many": 1}),
+)
+
+
+def spoil(value):
+    """Change every list in the value."""
+    if isinstance(value, (list, tuple)):
+        for item in value:
+            spoil(item)
+    if isinstance(value, list):
+        value.append(99)
+
+
+class ConventionsTest(unittest.TestCase):
+    def each(self, cases=FUNCTIONS + IDLE):
+        return [(getattr(module, name), named) for module, name, named in cases]
+
+    def test_defined_in_its_file(self):
+        for module, name, named in FUNCTIONS:
+            function = getattr(module, name)
+            self.assertTrue(inspect.isfunction(function))
+            self.assertEqual(function.__module__, module.__name__)
+            self.assertEqual(function.__name__, name)
+
+    def test_by_position_and_by_name(self):
+        for function, named in self.each():
+            expected = shape(function(*named.values()))
+            self.assertEqual(shape(function(**named)), expected)
+            self.assertEqual(shape(function(**dict(reversed(named.items())))), expected)
+
+    def test_no_other_arguments(self):
+        for function, named in self.each(FUNCTIONS):
+            self.assertEqual(list(inspect.signature(function).parameters), list(named))
+
+    def test_lists_for_tuples_and_tuples_for_lists(self):
+        for function, named in self.each():
+            if "thing" in named:
+                continue
+            expected = shape(function(**named))
+            for turned in (as_lists, as_tuples):
+                self.assertEqual(shape(function(**{key: turned(named[key]) for key in named})), expected)
+
+    def test_mixed_depths(self):
+        mixed = [MOVES[0], list(MOVES[1]), MOVES[2], list(MOVES[3]), MOVES[4]]
+        self.assertEqual(shape(packs.repeated(5, mixed, 1)), shape(MOVES))
+        self.assertEqual(packs.followed(5, tuple(mixed), mixed), packs.followed(5, MOVES, MOVES))
+        self.assertEqual(packs.steps_by(5, mixed, [0, 3]), [0, 1])
+
+    def test_only_the_exact_kind_counts_for_thing(self):
+        self.assertIs(tables.is_table(5, [0, 3]), False)
+        self.assertIs(tables.is_calls(5, (4, 4)), False)
+
+    def test_arguments_stay_unchanged(self):
+        for function, named in self.each():
+            for turned in (lambda value: value, as_lists, as_tuples):
+                given = {key: turned(named[key]) for key in named}
+                before = copy.deepcopy(given)
+                function(**given)
+                self.assertEqual(
+                    [shape(given[key]) for key in given], [shape(before[key]) for key in before])
+
+    def test_changing_a_result_has_no_effect_on_a_later_call(self):
+        for function, named in self.each():
+            given = {key: as_lists(named[key]) if key != "thing" else named[key] for key in named}
+            expected = shape(function(**given))
+            for _ in range(3):
+                result = function(**given)
+                self.assertEqual(shape(result), expected)
+                spoil(result)
+            self.assertEqual(shape(function(**given)), expected)
+
+    def test_changing_an_argument_has_no_effect_on_a_result(self):
+        for function, named in self.each():
+            given = {key: as_lists(named[key]) for key in named}
+            result = function(**given)
+            expected = shape(copy.deepcopy(result))
+            for value in given.values():
+                spoil(value)
+            self.assertEqual(shape(result), expected)
+            self.assertEqual(shape(function(**{key: as_lists(named[key]) for key in named})), expected)
+
+    def test_each_call_returns_new_lists(self):
+        for function, named in self.each():
+            first, second = function(**named), function(**named)
+            if isinstance(first, list):
+                self.assertIsNot(first, second)
+
+    def test_results_may_be_passed_in_again(self):
+        moves = within(1000000, packs.repeated, 5, MOVES, 10 ** 12)
+        moves = within(1000000, packs.repeated, 5, moves, 10 ** 12)
+        self.assertEqual(
+            packs.followed(5, moves, MOVES), within(1000000, packs.repeated, 5, MOVES, 10 ** 24 + 1))
+        self.assertEqual(len(packs.steps_by(5, moves, (0, 3))), 2)
+        self.assertIs(tables.is_table(5, tables.table_after(5, (0, 3), [1])), True)
+        self.assertIs(tables.is_calls(5, tables.seats_after(5, (0, 3), [1])), True)
+
+    def test_somewhat_beyond_the_bounds(self):
+        calls = mixed_calls(13, 400, 1)
+        moves = packs.moves_of(13, 6, calls)
+        table = (0, 2, 3, 7, 11, 12)
+        self.assertEqual(packs.steps_by(13, moves, table), tables.steps(13, table, calls))
+        most = within(1000000, packs.repeated, 13, moves, 10 ** 13)
+        before = within(1000000, packs.repeated, 13, moves, 10 ** 13 - 1)
+        self.assertEqual(packs.followed(13, before, moves), most)
+        self.assertEqual(packs.moves_of(3, 3, [0, 1, 2]), ((0, 0, 0),) * 3)
+        self.assertEqual(packs.pack(3, 3, 1), (0, 1, 2))
