@@ -1,6 +1,6 @@
 """Packs of neighbouring people, and what calls do to every table, told from the packs alone."""
 
-from nextstands.tables import steps
+from nextstands.tables import as_table, steps
 
 
 def pack_seats(size, people, chair):
@@ -31,6 +31,12 @@ def steps_of_one(size, moves, table, seat):
 def steps_by(size, moves, table):
     """The list of the steps of all people at a table, for any calls with these moves."""
     return [steps_of_one(size, moves, table, seat) for seat in table]
+
+
+def table_by(size, moves, table):
+    """The table after any calls with these moves."""
+    walked = steps_by(size, moves, table)
+    return as_table([(seat - many) % size for seat, many in zip(table, walked)])
 
 
 def pack_followed(size, chair, walked, second):

@@ -26,6 +26,24 @@ def mixed_calls(size, many, seed):
     return calls
 
 
+def small_cases(largest):
+    """All (size, people) up to this size."""
+    for size in range(2, largest + 1):
+        for people in range(1, size):
+            yield size, people
+
+
+def some_calls(size):
+    """Lists of calls of several lengths, from the empty one to 120 chairs."""
+    yield []
+    for chair in range(size):
+        yield [chair]
+    for many in (2, 3, 5, 8, 13, 40, 120):
+        yield mixed_calls(size, many, many)
+    yield list(range(size))
+    yield list(range(size))[::-1]
+
+
 class ByHand:
     """People moved chair by chair, as section 4 tells it."""
 
@@ -58,6 +76,13 @@ def walked_by_hand(size, table, calls):
     return hand.walked
 
 
+def table_by_hand(size, table, calls):
+    hand = ByHand(size, table)
+    for chair in calls:
+        hand.call(chair)
+    return hand.table()
+
+
 def moves_by_hand(size, people, calls):
     """The MOVES from the definition: each pack is sat down and moved by itself."""
     rows = []
@@ -67,6 +92,13 @@ def moves_by_hand(size, people, calls):
             row.append(size - 1 if row[-1] == 0 else row[-1] - 1)
         rows.append(tuple(walked_by_hand(size, row, calls)))
     return tuple(rows)
+
+
+def nested(value, levels, kind):
+    """The value inside so many lists or tuples."""
+    for _ in range(levels):
+        value = kind([value])
+    return value
 
 
 def as_lists(value):

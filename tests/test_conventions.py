@@ -2,7 +2,8 @@ import copy
 import inspect
 import unittest
 
-from nextstands import packs, tables
+from nextstands import compare, packs, results, tables, ways
+from nextstands.errors import NoNumber, NotWay, OtherPeople
 from tests.helpers import as_lists, as_tuples, mixed_calls, shape, within
 
 MOVES = ((0, 2), (0, 3), (0, 0), (0, 0), (0, 1))
@@ -23,6 +24,22 @@ FUNCTIONS = (
     (packs, "steps_by", {"size": 5, "moves": MOVES, "table": (0, 3)}),
     (packs, "followed", {"size": 5, "first": MOVES, "second": MOVES}),
     (packs, "repeated", {"size": 5, "moves": MOVES, "many": 3}),
+    (compare, "move_alike", {"size": 5, "people": 2, "first": [1, 1], "second": [1]}),
+    (compare, "moving_difference", {"size": 3, "people": 1, "first": [0], "second": [1, 0]}),
+    (compare, "shows_difference", {"size": 3, "people": 1, "first": [0], "second": [1, 0], "thing": (0, 0)}),
+    (compare, "lead_alike", {"size": 3, "people": 1, "first": [0], "second": [1, 0]}),
+    (compare, "leading_difference", {"size": 5, "people": 2, "first": [0, 3], "second": [3, 1]}),
+    (ways, "fewest_calls", {"size": 5, "first": (0, 3), "second": (1, 3)}),
+    (ways, "fewest_steps", {"size": 5, "first": (0, 3), "second": (1, 3)}),
+    (ways, "ways_many", {"size": 5, "first": (0, 3), "second": (2, 4)}),
+    (ways, "way_at", {"size": 5, "first": (0, 3), "second": (2, 4), "number": 1}),
+    (ways, "way_number", {"size": 5, "first": (0, 3), "second": (2, 4), "calls": [4, 2]}),
+    (results, "all_tables", {"size": 4, "people": 2}),
+    (results, "results_of", {"size": 4, "people": 2, "calls": [2]}),
+    (results, "beginnings_of", {"size": 4, "calls": [2], "table": (0, 2)}),
+    (results, "staying", {"size": 3, "people": 2, "calls": [2]}),
+    (results, "sure_chairs", {"size": 4, "people": 2, "calls": [2]}),
+    (results, "never_chairs", {"size": 3, "people": 1, "calls": [0]}),
 )
 
 # The same with nothing to do, where a result is most easily the argument itself.
@@ -35,6 +52,28 @@ IDLE = (
     (tables, "seats_after", {"size": 5, "table": (0, 3), "calls": []}),
     (packs, "repeated", {"size": 5, "moves": MOVES, "many": 0}),
     (packs, "repeated", {"size": 5, "moves": MOVES, "many": 1}),
+    (compare, "moving_difference", {"size": 3, "people": 1, "first": [], "second": []}),
+    (compare, "leading_difference", {"size": 3, "people": 1, "first": [], "second": []}),
+    (ways, "fewest_steps", {"size": 5, "first": (0, 3), "second": (0, 3)}),
+    (ways, "way_at", {"size": 5, "first": (0, 3), "second": (0, 3), "number": 0}),
+    (ways, "way_number", {"size": 5, "first": (0, 3), "second": (0, 3), "calls": []}),
+    (results, "results_of", {"size": 4, "people": 2, "calls": []}),
+    (results, "beginnings_of", {"size": 4, "calls": [], "table": (0, 2)}),
+    (results, "beginnings_of", {"size": 4, "calls": [2], "table": (0, 1)}),
+    (results, "staying", {"size": 3, "people": 2, "calls": []}),
+    (results, "sure_chairs", {"size": 4, "people": 2, "calls": []}),
+    (results, "never_chairs", {"size": 3, "people": 1, "calls": []}),
+)
+
+# Calls that raise an error: the function, its arguments, the error, its field, and what the field equals.
+FAILING = (
+    (ways.fewest_calls, {"size": 5, "first": (0, 3), "second": (2,)}, OtherPeople, "many", 1),
+    (ways.fewest_steps, {"size": 5, "first": (0,), "second": (2, 3)}, OtherPeople, "many", 2),
+    (ways.ways_many, {"size": 5, "first": (0, 3), "second": (2,)}, OtherPeople, "many", 1),
+    (ways.way_at, {"size": 5, "first": (0, 3), "second": (2,), "number": 9}, OtherPeople, "many", 1),
+    (ways.way_at, {"size": 5, "first": (0, 3), "second": (2, 4), "number": 2}, NoNumber, "number", 2),
+    (ways.way_number, {"size": 5, "first": (0, 3), "second": (2,), "calls": [1]}, OtherPeople, "many", 1),
+    (ways.way_number, {"size": 5, "first": (0, 3), "second": (1, 3), "calls": [3, 1]}, NotWay, "way", [3, 1]),
 )
 
 
@@ -86,6 +125,22 @@ class ConventionsTest(unittest.TestCase):
         self.assertIs(tables.is_table(5, [0, 3]), False)
         self.assertIs(tables.is_calls(5, (4, 4)), False)
 
+        self.assertIs(compare.shows_difference(3, 1, [0], [1, 0], [0, 0]), False)
+        # The other arguments of that function may be tuples.
+        self.assertIs(compare.shows_difference(3, 1, (0,), (1, 0), (0, 0)), True)
+
+    def test_errors_by_position_and_by_name(self):
+        for function, named, kind, field, worth in FAILING:
+            for turned in (lambda value: value, as_lists, as_tuples):
+                given = {key: turned(named[key]) for key in named}
+                before = copy.deepcopy(given)
+                for call in (lambda: function(**given), lambda: function(*given.values())):
+                    with self.assertRaises(kind) as held:
+                        call()
+                    self.assertEqual(shape(getattr(held.exception, field)), shape(turned(worth)))
+                self.assertEqual(
+                    [shape(given[key]) for key in given], [shape(before[key]) for key in before])
+
     def test_arguments_stay_unchanged(self):
         for function, named in self.each():
             for turned in (lambda value: value, as_lists, as_tuples):
@@ -129,6 +184,13 @@ class ConventionsTest(unittest.TestCase):
         self.assertEqual(len(packs.steps_by(5, moves, (0, 3))), 2)
         self.assertIs(tables.is_table(5, tables.table_after(5, (0, 3), [1])), True)
         self.assertIs(tables.is_calls(5, tables.seats_after(5, (0, 3), [1])), True)
+        difference = compare.moving_difference(5, 2, [1], [2])
+        self.assertIs(compare.shows_difference(5, 2, [1], [2], difference), True)
+        table = compare.leading_difference(5, 2, [1], [2])
+        self.assertIs(tables.is_table(5, table), True)
+        way = ways.way_at(5, (0, 3), table, ways.ways_many(5, (0, 3), table) - 1)
+        self.assertEqual(tables.table_after(5, (0, 3), way), table)
+        self.assertEqual(results.beginnings_of(5, way, results.results_of(5, 2, way)[0])[:1], [(0, 1)])
 
     def test_somewhat_beyond_the_bounds(self):
         calls = mixed_calls(13, 400, 1)
@@ -138,5 +200,9 @@ class ConventionsTest(unittest.TestCase):
         most = within(1000000, packs.repeated, 13, moves, 10 ** 13)
         before = within(1000000, packs.repeated, 13, moves, 10 ** 13 - 1)
         self.assertEqual(packs.followed(13, before, moves), most)
+        self.assertIs(compare.move_alike(13, 6, calls, calls + calls[-1:]), True)
+        self.assertIs(compare.lead_alike(13, 6, calls, calls + calls[-1:]), True)
+        self.assertIn(tables.table_after(13, table, calls), results.results_of(13, 6, calls))
+        self.assertEqual(ways.ways_many(14, tuple(range(1, 14, 2)), tuple(range(0, 14, 2))), 5040)
         self.assertEqual(packs.moves_of(3, 3, [0, 1, 2]), ((0, 0, 0),) * 3)
         self.assertEqual(packs.pack(3, 3, 1), (0, 1, 2))

@@ -1,6 +1,7 @@
 """What can be seen at a glance of the rules for the language of the package."""
 
 import ast
+import builtins
 import pathlib
 import re
 import unittest
@@ -35,3 +36,38 @@ class LanguageTest(unittest.TestCase):
                     self.assertRegex(node.module, r"\Anextstands\.")
                 if isinstance(node, ast.FunctionDef):
                     self.assertLessEqual(node.end_lineno - node.lineno + 1, 40)
+
+    def test_names(self):
+        for text in self.files():
+            tree = ast.parse(text)
+            nodes = list(ast.walk(tree))
+            imported = [name.name for node in nodes if isinstance(node, ast.ImportFrom) for name in node.names]
+            functions = [node.name for node in nodes if isinstance(node, ast.FunctionDef)]
+            variables = [
+                node.id for node in nodes if isinstance(node, ast.Name) and isinstance(node.ctx, ast.Store)]
+            variables += [node.arg for node in nodes if isinstance(node, ast.arg)]
+            for name in variables + functions:
+                if name != "__init__":
+                    self.assertFalse(hasattr(builtins, name) or name.startswith("_"), name)
+            self.assertEqual(sorted(set(variables) & set(imported)), [])
+            top = [node.name for node in tree.body if isinstance(node, (ast.FunctionDef, ast.ClassDef))]
+            self.assertEqual(len(set(top + imported)), len(top + imported))
+
+    def test_imports_name_the_defining_file_and_run_in_no_circle(self):
+        before = {}
+        defined = {}
+        for path in PACKAGE.glob("*.py"):
+            tree = ast.parse(path.read_text(encoding="utf-8"))
+            defined[path.stem] = [
+                node.name for node in tree.body if isinstance(node, (ast.FunctionDef, ast.ClassDef))]
+            before[path.stem] = [
+                (node.module.rpartition(".")[2], name.name)
+                for node in tree.body if isinstance(node, ast.ImportFrom) for name in node.names]
+        for names in before.values():
+            for module, name in names:
+                self.assertIn(name, defined[module])
+        left = dict(before)
+        while left:
+            free = [stem for stem in left if not any(module in left for module, _ in left[stem])]
+            self.assertNotEqual(free, [])
+            left = {stem: left[stem] for stem in left if stem not in free}

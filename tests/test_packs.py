@@ -2,7 +2,8 @@ import unittest
 
 from nextstands.packs import followed, moves_of, pack, repeated, steps_by
 from nextstands.tables import steps
-from tests.helpers import TooMuchWork, mixed_calls, moves_by_hand, shape, tables_of, walked_by_hand, within
+from tests.helpers import TooMuchWork, mixed_calls, moves_by_hand, shape, small_cases, some_calls
+from tests.helpers import tables_of, walked_by_hand, within
 
 LARGEST = 10 ** 12
 
@@ -17,23 +18,6 @@ def one_by_one(size, moves, many):
     for _ in range(many - 1):
         result = followed(size, result, moves)
     return result
-
-
-def small_cases(largest):
-    for size in range(2, largest + 1):
-        for people in range(1, size):
-            yield size, people
-
-
-def some_calls(size):
-    """Lists of calls of several lengths, from the empty one to 120 chairs."""
-    yield []
-    for chair in range(size):
-        yield [chair]
-    for many in (2, 3, 5, 8, 13, 40, 120):
-        yield mixed_calls(size, many, many)
-    yield list(range(size))
-    yield list(range(size))[::-1]
 
 
 class PackTest(unittest.TestCase):

@@ -2,14 +2,7 @@ import unittest
 
 from nextstands.tables import called, idle_calls, is_calls, is_table, mover
 from nextstands.tables import seats_after, steps, table_after, tables_along
-from tests.helpers import ByHand, mixed_calls, shape, small_tables, tables_of
-
-
-def nested(value, levels, kind):
-    for _ in range(levels):
-        value = kind([value])
-    return value
-
+from tests.helpers import ByHand, mixed_calls, nested, shape, small_tables, tables_of
 
 # Of every kind that `thing` may be, and neither a TABLE nor a list of chairs.
 NEITHER = (
