@@ -83,6 +83,30 @@ def table_by_hand(size, table, calls):
     return hand.table()
 
 
+def movers_by_hand(size, table, calls):
+    hand = ByHand(size, table)
+    return [hand.call(chair) for chair in calls]
+
+
+def seats_by_hand(size, table, calls):
+    hand = ByHand(size, table)
+    for chair in calls:
+        hand.call(chair)
+    return hand.seats
+
+
+def course_by_hand(size, table, calls):
+    """The course from its definition, with every repetition done, over twice as many as there are tables."""
+    along = [tuple(table)]
+    for _ in range(2 * len(tables_of(size, len(table))) + 1):
+        along.append(table_by_hand(size, along[-1], calls))
+    for lead in range(len(along)):
+        for period in range(1, len(along) - lead):
+            if along[lead] == along[lead + period]:
+                return lead, period
+    raise AssertionError("no table came twice")
+
+
 def moves_by_hand(size, people, calls):
     """The MOVES from the definition: each pack is sat down and moved by itself."""
     rows = []
@@ -92,6 +116,38 @@ def moves_by_hand(size, people, calls):
             row.append(size - 1 if row[-1] == 0 else row[-1] - 1)
         rows.append(tuple(walked_by_hand(size, row, calls)))
     return tuple(rows)
+
+
+def line_by_hand(size, table):
+    line = str(size) + ":"
+    for chair in table:
+        line += " " + str(chair)
+    return line
+
+
+class Search:
+    """A search layer by layer, from each table of one size and number of people."""
+
+    def __init__(self, size, people):
+        self.size = size
+        self.tables = tables_of(size, people)
+        self.after = {
+            table: [table_by_hand(size, table, [chair]) for chair in range(size)] for table in self.tables}
+
+    def lists_from(self, first):
+        """For each table: all shortest lists of calls that lead there, in ascending order."""
+        found = {first: [[]]}
+        layer = [first]
+        while layer:
+            reached = {}
+            for table in layer:
+                for chair, after in enumerate(self.after[table]):
+                    if after not in found:
+                        reached.setdefault(after, []).extend(calls + [chair] for calls in found[table])
+            for table in reached:
+                found[table] = sorted(reached[table])
+            layer = list(reached)
+        return found
 
 
 def nested(value, levels, kind):
@@ -143,3 +199,26 @@ def within(lines, function, *arguments):
         return function(*arguments)
     finally:
         sys.settrace(before)
+
+
+def mixed_operations(size, many, seed):
+    """A fixed list of operations of a circle: ("call", chair), ("call_all", chairs) and ("undo",).
+
+    Some have integers among them that are not chairs.
+    """
+    operations = []
+    for number, kind in enumerate(mixed_calls(10, many, seed)):
+        chairs = mixed_calls(size, number % 5, seed + number)
+        chair = mixed_calls(size, 1, seed + number)[0]
+        wrong = (-1, size, size + 7, -10 ** 30, 10 ** 5000)[number % 5]
+        if kind < 3:
+            operations.append(("call", chair))
+        elif kind < 6:
+            operations.append(("call_all", chairs))
+        elif kind < 8:
+            operations.append(("undo",))
+        elif kind < 9:
+            operations.append(("call", wrong))
+        else:
+            operations.append(("call_all", chairs + [wrong, chair, wrong - 1]))
+    return operations

@@ -2,8 +2,8 @@ import copy
 import inspect
 import unittest
 
-from nextstands import compare, packs, results, tables, ways
-from nextstands.errors import NoNumber, NotWay, OtherPeople
+from nextstands import commands, compare, lines, packs, results, rounds, tables, ways
+from nextstands.errors import BadLine, BadScript, NoNumber, NotWay, OtherPeople
 from tests.helpers import as_lists, as_tuples, mixed_calls, shape, within
 
 MOVES = ((0, 2), (0, 3), (0, 0), (0, 0), (0, 1))
@@ -34,12 +34,19 @@ FUNCTIONS = (
     (ways, "ways_many", {"size": 5, "first": (0, 3), "second": (2, 4)}),
     (ways, "way_at", {"size": 5, "first": (0, 3), "second": (2, 4), "number": 1}),
     (ways, "way_number", {"size": 5, "first": (0, 3), "second": (2, 4), "calls": [4, 2]}),
+    (rounds, "course", {"size": 5, "table": (0, 3), "calls": [1, 4, 3, 3]}),
+    (rounds, "table_after_many", {"size": 5, "table": (0, 3), "calls": [1, 4, 3, 3], "many": 2}),
+    (rounds, "steps_after_many", {"size": 5, "table": (0, 3), "calls": [1, 4], "many": 2}),
+    (rounds, "average", {"size": 5, "people": 2, "calls": [1, 4, 3, 3]}),
     (results, "all_tables", {"size": 4, "people": 2}),
     (results, "results_of", {"size": 4, "people": 2, "calls": [2]}),
     (results, "beginnings_of", {"size": 4, "calls": [2], "table": (0, 2)}),
     (results, "staying", {"size": 3, "people": 2, "calls": [2]}),
     (results, "sure_chairs", {"size": 4, "people": 2, "calls": [2]}),
     (results, "never_chairs", {"size": 3, "people": 1, "calls": [0]}),
+    (lines, "table_line", {"size": 5, "table": (0, 3)}),
+    (lines, "table_from", {"line": "5: 0 3"}),
+    (commands, "run", {"script": "5: 0 3\ncall 1\nall 4 3 3\nshow"}),
 )
 
 # The same with nothing to do, where a result is most easily the argument itself.
@@ -57,12 +64,19 @@ IDLE = (
     (ways, "fewest_steps", {"size": 5, "first": (0, 3), "second": (0, 3)}),
     (ways, "way_at", {"size": 5, "first": (0, 3), "second": (0, 3), "number": 0}),
     (ways, "way_number", {"size": 5, "first": (0, 3), "second": (0, 3), "calls": []}),
+    (rounds, "course", {"size": 5, "table": (0, 3), "calls": []}),
+    (rounds, "table_after_many", {"size": 5, "table": (0, 3), "calls": [], "many": 3}),
+    (rounds, "table_after_many", {"size": 5, "table": (0, 3), "calls": [1], "many": 0}),
+    (rounds, "steps_after_many", {"size": 5, "table": (0, 3), "calls": [], "many": 3}),
+    (rounds, "steps_after_many", {"size": 5, "table": (0, 3), "calls": [1], "many": 0}),
+    (rounds, "average", {"size": 5, "people": 2, "calls": []}),
     (results, "results_of", {"size": 4, "people": 2, "calls": []}),
     (results, "beginnings_of", {"size": 4, "calls": [], "table": (0, 2)}),
     (results, "beginnings_of", {"size": 4, "calls": [2], "table": (0, 1)}),
     (results, "staying", {"size": 3, "people": 2, "calls": []}),
     (results, "sure_chairs", {"size": 4, "people": 2, "calls": []}),
     (results, "never_chairs", {"size": 3, "people": 1, "calls": []}),
+    (commands, "run", {"script": "5: 0 3"}),
 )
 
 # Calls that raise an error: the function, its arguments, the error, its field, and what the field equals.
@@ -74,6 +88,8 @@ FAILING = (
     (ways.way_at, {"size": 5, "first": (0, 3), "second": (2, 4), "number": 2}, NoNumber, "number", 2),
     (ways.way_number, {"size": 5, "first": (0, 3), "second": (2,), "calls": [1]}, OtherPeople, "many", 1),
     (ways.way_number, {"size": 5, "first": (0, 3), "second": (1, 3), "calls": [3, 1]}, NotWay, "way", [3, 1]),
+    (lines.table_from, {"line": "5: 3 0"}, BadLine, "line", "5: 3 0"),
+    (commands.run, {"script": "5: 0 3\nsit 1"}, BadScript, "line", 1),
 )
 
 
@@ -191,6 +207,10 @@ class ConventionsTest(unittest.TestCase):
         way = ways.way_at(5, (0, 3), table, ways.ways_many(5, (0, 3), table) - 1)
         self.assertEqual(tables.table_after(5, (0, 3), way), table)
         self.assertEqual(results.beginnings_of(5, way, results.results_of(5, 2, way)[0])[:1], [(0, 1)])
+        lead, period = rounds.course(5, table, way)
+        returning = rounds.table_after_many(5, table, way, lead)
+        self.assertEqual(rounds.table_after_many(5, returning, way, period), returning)
+        self.assertEqual(lines.table_from(lines.table_line(5, returning)), (5, returning))
 
     def test_somewhat_beyond_the_bounds(self):
         calls = mixed_calls(13, 400, 1)
@@ -203,6 +223,12 @@ class ConventionsTest(unittest.TestCase):
         self.assertIs(compare.move_alike(13, 6, calls, calls + calls[-1:]), True)
         self.assertIs(compare.lead_alike(13, 6, calls, calls + calls[-1:]), True)
         self.assertIn(tables.table_after(13, table, calls), results.results_of(13, 6, calls))
+        after = within(1000000, rounds.table_after_many, 13, table, calls, 10 ** 13)
+        self.assertEqual(rounds.course(13, after, calls)[0], 0)
+        self.assertEqual(
+            within(1000000, rounds.steps_after_many, 13, table, calls, 10 ** 13), packs.steps_by(13, most, table))
+        self.assertGreater(rounds.average(13, 6, calls)[0], 0)
+        self.assertEqual(lines.table_line(13, table), "13: 0 2 3 7 11 12")
         self.assertEqual(ways.ways_many(14, tuple(range(1, 14, 2)), tuple(range(0, 14, 2))), 5040)
         self.assertEqual(packs.moves_of(3, 3, [0, 1, 2]), ((0, 0, 0),) * 3)
         self.assertEqual(packs.pack(3, 3, 1), (0, 1, 2))

@@ -7,7 +7,15 @@ import re
 import unittest
 
 PACKAGE = pathlib.Path(__file__).resolve().parent.parent / "nextstands"
-BARRED = ("type", "typing", "enum", "Enum", "Flag", "Generic", "Protocol", "ABC", "namedtuple")
+BARRED = (
+    "type", "typing", "enum", "Enum", "Flag", "Generic", "Protocol", "ABC", "namedtuple", "dataclass", "overload")
+DOUBLE = ("__init__", "__len__", "__eq__", "__repr__")
+# Of the builtins and the methods of builtin values, those that the package uses and the rules allow.
+BUILTINS = (
+    "LookupError", "RuntimeError", "ValueError", "all", "any", "bool", "enumerate", "int", "isinstance", "len", "list",
+    "max", "min", "range", "sorted", "str", "sum", "tuple", "zip")
+METHODS = ("append", "index", "isascii", "isdigit", "join", "partition", "split")
+SIMPLE = (ast.Constant, ast.Dict, ast.Tuple, ast.List)
 
 
 class LanguageTest(unittest.TestCase):
@@ -47,7 +55,7 @@ class LanguageTest(unittest.TestCase):
                 node.id for node in nodes if isinstance(node, ast.Name) and isinstance(node.ctx, ast.Store)]
             variables += [node.arg for node in nodes if isinstance(node, ast.arg)]
             for name in variables + functions:
-                if name != "__init__":
+                if name not in DOUBLE:
                     self.assertFalse(hasattr(builtins, name) or name.startswith("_"), name)
             self.assertEqual(sorted(set(variables) & set(imported)), [])
             top = [node.name for node in tree.body if isinstance(node, (ast.FunctionDef, ast.ClassDef))]
@@ -71,3 +79,55 @@ class LanguageTest(unittest.TestCase):
             free = [stem for stem in left if not any(module in left for module, _ in left[stem])]
             self.assertNotEqual(free, [])
             left = {stem: left[stem] for stem in left if stem not in free}
+
+    def test_module_level(self):
+        for text in self.files():
+            for at, node in enumerate(ast.parse(text).body):
+                if at == 0:
+                    self.assertIsInstance(node, ast.Expr)
+                elif isinstance(node, ast.Assign):
+                    self.assertEqual([type(target) for target in node.targets], [ast.Name])
+                    self.assertIsInstance(node.value, SIMPLE)
+                    inner = [part for part in ast.walk(node.value) if part is not node.value]
+                    self.assertEqual([part for part in inner if isinstance(part, (ast.List, ast.Dict, ast.Call))], [])
+                else:
+                    self.assertIsInstance(node, (ast.ImportFrom, ast.FunctionDef, ast.ClassDef))
+
+    def test_builtins_and_methods(self):
+        own = []
+        for text in self.files():
+            own += [node.name for node in ast.walk(ast.parse(text)) if isinstance(node, ast.FunctionDef)]
+        for text in self.files():
+            for node in ast.walk(ast.parse(text)):
+                if isinstance(node, ast.Name) and hasattr(builtins, node.id):
+                    self.assertIn(node.id, BUILTINS)
+                if isinstance(node, ast.Call) and isinstance(node.func, ast.Attribute):
+                    self.assertIn(node.func.attr, METHODS + tuple(own))
+                if isinstance(node, ast.Call):
+                    self.assertEqual(node.keywords, [])
+
+    def test_no_name_is_a_method_and_an_attribute(self):
+        methods, attributes = [], []
+        for text in self.files():
+            for node in ast.walk(ast.parse(text)):
+                if isinstance(node, ast.ClassDef):
+                    methods += [part.name for part in node.body if isinstance(part, ast.FunctionDef)]
+                if isinstance(node, ast.Attribute) and isinstance(node.ctx, ast.Store):
+                    attributes.append(node.attr)
+        self.assertIn("call_all", methods)
+        self.assertIn("chair", attributes)
+        self.assertEqual(sorted(set(methods) & set(attributes)), [])
+        values = (str, int, list, tuple, dict, set, bytes)
+        for name in methods + attributes:
+            if name not in DOUBLE:
+                self.assertEqual([value for value in values if hasattr(value, name)], [], name)
+
+    def test_strings(self):
+        for text in self.files():
+            self.assertNotIn("\t", text)
+            for node in ast.walk(ast.parse(text)):
+                if isinstance(node, ast.Constant) and isinstance(node.value, str):
+                    self.assertRegex(node.value, r"\A[ -$&-~\n]*\Z")
+                self.assertNotIsInstance(node, (ast.Lambda, ast.Pow, ast.AnnAssign, ast.NamedExpr))
+                if isinstance(node, ast.Constant):
+                    self.assertNotIsInstance(node.value, (float, complex))

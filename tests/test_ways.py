@@ -2,35 +2,10 @@ import unittest
 
 from nextstands.errors import NoNumber, NotWay, OtherPeople
 from nextstands.ways import fewest_calls, fewest_steps, way_at, way_number, ways_many
-from tests.helpers import ByHand, TooMuchWork, mixed_calls, shape, small_cases, small_tables, table_by_hand
+from tests.helpers import ByHand, Search, TooMuchWork, mixed_calls, shape, small_cases, small_tables
 from tests.helpers import tables_of, walked_by_hand, within
 
 FAR = (-10 ** 5000, -10 ** 40, -100, -2, -1)
-
-
-class Search:
-    """A search layer by layer, from each table of one size and number of people."""
-
-    def __init__(self, size, people):
-        self.size = size
-        self.tables = tables_of(size, people)
-        self.after = {
-            table: [table_by_hand(size, table, [chair]) for chair in range(size)] for table in self.tables}
-
-    def lists_from(self, first):
-        """For each table: all shortest lists of calls that lead there, in ascending order."""
-        found = {first: [[]]}
-        layer = [first]
-        while layer:
-            reached = {}
-            for table in layer:
-                for chair, after in enumerate(self.after[table]):
-                    if after not in found:
-                        reached.setdefault(after, []).extend(calls + [chair] for calls in found[table])
-            for table in reached:
-                found[table] = sorted(reached[table])
-            layer = list(reached)
-        return found
 
 
 def far_beyond(many):
